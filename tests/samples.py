@@ -1,0 +1,89 @@
+"""Inputs for the tests, and plain ways to say the same as the program does."""
+
+import random
+from itertools import combinations
+
+KINDS_TOLD = (tuple, int, str, bool, type(None))
+
+
+def nested(deep, empty, wrap):
+    """A thing of so many wrappings, one within another."""
+    thing = empty
+    for _ in range(deep):
+        thing = wrap(thing)
+    return thing
+
+
+def strange_things():
+    """Things that are neither a whole number from 0 on nor a tuple that holds any."""
+    return [
+        True, False, None, "", "0", "want", b"", b"\x00", -1, -10 ** 30,
+        [], [0], [0, 1], {}, {0: 0}, set(), {0, 1}, frozenset([0]), range(2), (),
+        object(), int, len, lambda: 0, NotImplemented, ...,
+        nested(30, (), lambda thing: (thing,)),
+        nested(30, 0, lambda thing: (0, thing)),
+        nested(30, 0, lambda thing: [thing, thing]),
+        nested(30, 0, lambda thing: {"a": thing}),
+    ]
+
+
+def spoiled(value):
+    """All that comes of a nested tuple by one strange thing in one place."""
+    for strange in strange_things():
+        yield strange
+    if isinstance(value, tuple):
+        yield list(value)
+        for at, part in enumerate(value):
+            for worse in spoiled(part):
+                yield value[:at] + (worse,) + value[at + 1:]
+
+
+def parts_of(things):
+    """All parts of some things, each as a frozenset."""
+    things = sorted(things)
+    return [frozenset(part) for many in range(len(things) + 1) for part in combinations(things, many)]
+
+
+def number_of(things):
+    """The heap's number, by the document's own words."""
+    return sum(2 ** thing for thing in things)
+
+
+def set_of(heap):
+    """The frozenset of the heap's things."""
+    return frozenset(thing for thing in range(16) if heap // 2 ** thing % 2)
+
+
+def grown(numbers, many):
+    """A want: each heap gets the greatest of the numbers at it and within it, that of 0 is 0."""
+    heaps = [set_of(heap) for heap in range(2 ** many)]
+    return tuple(
+        max([numbers[number_of(part)] for part in heaps[1:] if part <= heap], default=0) for heap in heaps
+    )
+
+
+def chance(seed):
+    """A source of numbers that tells the same in each run."""
+    return random.Random(seed)
+
+
+def some_want(source, many, most=1000):
+    """A want of so many things, of no kind that is meant."""
+    return grown([source.randint(0, most) for _ in range(2 ** many)], many)
+
+
+def some_sides(source, many):
+    """Sides of so many things."""
+    return tuple(source.randint(0, 1) for _ in range(many))
+
+
+def all_told(value):
+    """Whether a value holds tuples, whole numbers, texts, truths and None alone."""
+    if type(value) not in KINDS_TOLD:
+        return False
+    return not isinstance(value, tuple) or all(all_told(part) for part in value)
+
+
+def are_wholes(values):
+    """Whether a tuple holds whole numbers alone, no truths among them."""
+    return type(values) is tuple and all(type(value) is int for value in values)

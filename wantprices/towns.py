@@ -1,0 +1,26 @@
+"""Towns: the sides of the things, and the wants of the hands."""
+
+from wantprices.wants import is_want
+from wantprices.wholes import is_whole
+
+MOST_THINGS = 5
+MOST_HANDS = 5
+
+
+def is_sides(thing):
+    """Whether anything is sides: for each of 1 to 5 things 0 or 1."""
+    if not isinstance(thing, tuple) or not 1 <= len(thing) <= MOST_THINGS:
+        return False
+    return all([is_whole(side) and 0 <= side <= 1 for side in thing])
+
+
+def is_town(thing):
+    """Whether anything is a town: (sides, wants), wants of 1 to 5 hands."""
+    if not isinstance(thing, tuple) or len(thing) != 2:
+        return False
+    sides, wants = thing
+    if not is_sides(sides):
+        return False
+    if not isinstance(wants, tuple) or not 1 <= len(wants) <= MOST_HANDS:
+        return False
+    return all([is_want(want, len(sides)) for want in wants])
