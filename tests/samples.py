@@ -87,3 +87,68 @@ def all_told(value):
 def are_wholes(values):
     """Whether a tuple holds whole numbers alone, no truths among them."""
     return type(values) is tuple and all(type(value) is int for value in values)
+
+
+def some_prices(source, many, most=10 ** 6):
+    """Prices of so many things, from minus the most to the most."""
+    return tuple(source.randint(-most, most) for _ in range(many))
+
+
+def all_prices_kinds(source, many):
+    """Prices of several kinds: noughts, small ones, such as worths, the greatest that are asked for."""
+    return [
+        (0,) * many, some_prices(source, many, 3), some_prices(source, many, 1000), some_prices(source, many),
+        (10 ** 6,) * many, (-10 ** 6,) * many,
+    ]
+
+
+def with_sides(numbers, sides):
+    """A want that is, turned by the sides, the numbers, but for one and the same for each thing."""
+    flips = number_of(thing for thing, side in enumerate(sides) if side == 1)
+    back = [numbers[heap ^ flips] for heap in range(len(numbers))]
+    # So much for each thing makes it rise, whatever the numbers are, and breaks nothing anew.
+    each = max(numbers) - min(numbers)
+    return tuple(back[heap] - back[0] + each * len(set_of(heap)) for heap in range(len(numbers)))
+
+
+def covering(source, many):
+    """Numbers that no pair breaks, all sides being 0, but perhaps three: what is covered by all things of a heap."""
+    places = [(source.randint(1, 9), source.randint(0, 2 ** many - 1)) for _ in range(5)]
+    return tuple(sum(worth for worth, heap in places if heap & other) for other in range(2 ** many))
+
+
+def assigning(source, many, most=1000):
+    """Numbers that are of sides all 0: the greatest sum where each of some places takes at most one thing."""
+    places = [[source.randint(0, most) for _ in range(many)] for _ in range(source.randint(1, many))]
+    told = [max([assigned(places, list(part)) for part in parts_of(set_of(heap))]) for heap in range(2 ** many)]
+    return tuple(told)
+
+
+def assigned(places, things):
+    """The greatest sum by which each of the things goes to a place of its own, if there are as many."""
+    if not things:
+        return 0
+    sums = [
+        places[at][things[0]] + assigned(places[:at] + places[at + 1:], things[1:])
+        for at in range(len(places))
+    ]
+    return max(sums, default=-10 ** 9)
+
+
+def all_wants(many, most):
+    """All wants of so many things of which no worth is above the most."""
+    wants = [(0,)]
+    for _ in range(many):
+        wants = [low + high for low in wants for high in raised(low, most)]
+    return wants
+
+
+def raised(low, most):
+    """All rows of worths above those of a want of a thing fewer: what its heaps are worth with one thing more."""
+    rows = [()]
+    for heap in range(len(low)):
+        rows = [
+            row + (worth,) for row in rows
+            for worth in range(max([low[heap]] + [row[heap - 2 ** thing] for thing in set_of(heap)]), most + 1)
+        ]
+    return rows

@@ -4,7 +4,9 @@ import unittest
 from itertools import permutations
 
 from tests.samples import are_wholes, number_of, parts_of, set_of
-from wantprices.heaps import heap_of, is_within, things_in
+from wantprices.heaps import (
+    exchanged, has, heap_of, heap_of_side, is_within, less, put_in, taken_out, things_in,
+)
 
 
 class ThingsIn(unittest.TestCase):
@@ -71,6 +73,27 @@ class IsWithin(unittest.TestCase):
     def test_by_name(self):
         self.assertIs(is_within(one=2, other=3), True)
         self.assertIs(is_within(other=2, one=3), False)
+
+
+class Helpers(unittest.TestCase):
+
+    def test_a_thing_in_and_out(self):
+        for heap in range(32):
+            for thing in range(5):
+                things = set_of(heap)
+                self.assertIs(has(heap, thing), thing in things)
+                self.assertEqual(put_in(heap, thing), number_of(things | {thing}))
+                self.assertEqual(taken_out(heap, thing), number_of(things - {thing}))
+                self.assertEqual(exchanged(heap, thing), number_of(things ^ {thing}))
+
+    def test_what_is_left(self):
+        for one in range(32):
+            for other in range(32):
+                self.assertEqual(less(one, other), number_of(set_of(one) - set_of(other)))
+
+    def test_sides(self):
+        self.assertEqual(heap_of_side((0, 1, 1, 0, 1), 1), 22)
+        self.assertEqual(heap_of_side((0, 1, 1, 0, 1), 0), 9)
 
 
 if __name__ == "__main__":

@@ -16,6 +16,11 @@ def taken_out(heap, thing):
     return less(heap, 1 << thing)
 
 
+def exchanged(heap, thing):
+    """The heap with the thing taken out where it was in, put in where it was not."""
+    return heap ^ (1 << thing)
+
+
 def less(one, other):
     """The heap of the things of the one heap that are not in the other."""
     return one - (one & other)
@@ -34,3 +39,8 @@ def heap_of(things):
 def is_within(one, other):
     """Whether each thing of the one heap is in the other."""
     return less(one, other) == 0
+
+
+def heap_of_side(sides, side):
+    """The heap of all things of that side."""
+    return heap_of([thing for thing in range(len(sides)) if sides[thing] == side])
