@@ -1,7 +1,7 @@
 """Inputs for the tests, and plain ways to say the same as the program does."""
 
 import random
-from itertools import combinations
+from itertools import combinations, product
 
 KINDS_TOLD = (tuple, int, str, bool, type(None))
 
@@ -152,3 +152,55 @@ def raised(low, most):
             for worth in range(max([low[heap]] + [row[heap - 2 ** thing] for thing in set_of(heap)]), most + 1)
         ]
     return rows
+
+
+def wants_of_all_kinds(source, many, sides):
+    """Wants of no kind that is meant, one that perhaps three alone break, and one of its sides."""
+    wants = [some_want(source, many, most) for most in (1, 3, 1000)]
+    return wants + [with_sides(covering(source, many), sides), with_sides(assigning(source, many), sides)]
+
+
+def some_town(source, many, hands, most=1000):
+    """A town of so many things and hands, of no kind that is meant."""
+    return (some_sides(source, many), tuple(some_want(source, many, most) for _ in range(hands)))
+
+
+def town_of_sides(source, many, hands, most=1000):
+    """A town of its sides of so many things and hands."""
+    sides = some_sides(source, many)
+    return (sides, tuple(with_sides(assigning(source, many, most), sides) for _ in range(hands)))
+
+
+def all_dealings(town):
+    """All dealings of a town, as tuples rise."""
+    sides, wants = town
+    return list(product(range(-1, len(wants)), repeat=len(sides)))
+
+
+def plain_sum(town, dealing):
+    """The sum of a dealing, by the document's own words."""
+    return sum(
+        want[number_of(thing for thing, here in enumerate(dealing) if here == hand)]
+        for hand, want in enumerate(town[1])
+    )
+
+
+def plain_best_heaps(want, prices):
+    """All best heaps as frozensets."""
+    gains = [worth - sum(prices[thing] for thing in set_of(heap)) for heap, worth in enumerate(want)]
+    return [set_of(heap) for heap in range(len(want)) if gains[heap] == max(gains)]
+
+
+def plain_price_break(want, sides, prices, thing, heap):
+    """Whether it is a price break, by the document's own words."""
+    if set_of(heap) not in plain_best_heaps(want, prices):
+        return False
+    behind = list(prices)
+    behind[thing] += 1 if sides[thing] == 0 else -1
+    others = [other for other in range(len(sides)) if other != thing]
+    has_to_stay = [other for other in others if sides[other] == 0 and other in set_of(heap)]
+    has_to_lack = [other for other in others if sides[other] == 1 and other not in set_of(heap)]
+    return not any(
+        all(other in best for other in has_to_stay) and not any(other in best for other in has_to_lack)
+        for best in plain_best_heaps(want, behind)
+    )

@@ -4,8 +4,8 @@ import unittest
 from itertools import product
 
 from tests.samples import (
-    all_told, all_wants, are_wholes, assigning, chance, covering, number_of, set_of, some_sides, some_want,
-    with_sides,
+    all_told, all_wants, are_wholes, assigning, chance, number_of, set_of, some_sides, some_want,
+    wants_of_all_kinds, with_sides,
 )
 from wantprices.kinds import breaking, first_strange, turned
 from wantprices.made import alone, some_of
@@ -127,9 +127,7 @@ class Breaking(unittest.TestCase):
         seen = {}
         for many in range(1, 6):
             for sides in product((0, 1), repeat=many):
-                wants = [some_want(source, many, most) for most in (1, 3, 1000)]
-                wants += [with_sides(covering(source, many), sides), with_sides(assigning(source, many), sides)]
-                for want in wants:
+                for want in wants_of_all_kinds(source, many, sides):
                     told = breaking(want, sides)
                     self.assertTrue(all_told(told))
                     self.assertEqual(told, plain_breaking(want, sides))

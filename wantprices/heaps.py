@@ -42,5 +42,5 @@ def is_within(one, other):
 
 
 def heap_of_side(sides, side):
-    """The heap of all things of that side."""
+    """The heap of all things of that side; of a dealing, which tells hands for sides, of all things of that hand."""
     return heap_of([thing for thing in range(len(sides)) if sides[thing] == side])

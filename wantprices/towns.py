@@ -1,7 +1,7 @@
 """Towns: the sides of the things, and the wants of the hands."""
 
 from wantprices.wants import is_want
-from wantprices.wholes import is_whole
+from wantprices.wholes import are_wholes_from
 
 MOST_THINGS = 5
 MOST_HANDS = 5
@@ -11,7 +11,7 @@ def is_sides(thing):
     """Whether anything is sides: for each of 1 to 5 things 0 or 1."""
     if not isinstance(thing, tuple) or not 1 <= len(thing) <= MOST_THINGS:
         return False
-    return all([is_whole(side) and 0 <= side <= 1 for side in thing])
+    return are_wholes_from(thing, len(thing), 0) and max(thing) <= 1
 
 
 def is_town(thing):

@@ -1,16 +1,12 @@
 """Wants: a tuple of the worths of all heaps, each at its heap's number."""
 
 from wantprices.heaps import taken_out, things_in
-from wantprices.wholes import is_whole_from
+from wantprices.wholes import are_wholes_from
 
 
 def is_want(thing, many):
     """Whether anything is a want of so many things."""
-    if not isinstance(thing, tuple) or len(thing) != 1 << many:
-        return False
-    if not all([is_whole_from(worth, 0) for worth in thing]):
-        return False
-    return thing[0] == 0 and never_sinks(thing)
+    return are_wholes_from(thing, 1 << many, 0) and thing[0] == 0 and never_sinks(thing)
 
 
 def never_sinks(worths):

@@ -10,3 +10,13 @@ def is_whole(thing):
 def is_whole_from(thing, least):
     """Whether anything is a whole number, the least one or above."""
     return is_whole(thing) and thing >= least
+
+
+def are_wholes(thing, many):
+    """Whether anything is a tuple of so many whole numbers."""
+    return isinstance(thing, tuple) and len(thing) == many and all([is_whole(part) for part in thing])
+
+
+def are_wholes_from(thing, many, least):
+    """Whether anything is a tuple of so many whole numbers, each the least one or above."""
+    return are_wholes(thing, many) and all([part >= least for part in thing])
