@@ -5,6 +5,9 @@ from itertools import combinations, product
 
 KINDS_TOLD = (tuple, int, str, bool, type(None))
 
+# Each of three hands wants another two of three things: no prices meet.
+RING = ((0, 0, 0), ((0, 0, 0, 1, 0, 0, 0, 1), (0, 0, 0, 0, 0, 1, 0, 1), (0, 0, 0, 0, 0, 0, 1, 1)))
+
 
 def nested(deep, empty, wrap):
     """A thing of so many wrappings, one within another."""
@@ -204,3 +207,77 @@ def plain_price_break(want, sides, prices, thing, heap):
         all(other in best for other in has_to_stay) and not any(other in best for other in has_to_lack)
         for best in plain_best_heaps(want, behind)
     )
+
+
+def clustered_town(source, many, hands, most=1000):
+    """A town of sides all 0 where things are worth something by twos or threes alone: often no prices meet there."""
+    each, by = source.randint(1, most), source.randint(2, 3)
+    worths = [each * (len(set_of(heap)) // by) for heap in range(2 ** many)]
+    wants = [grown([worth + source.randint(0, 1) for worth in worths], many) for _ in range(hands)]
+    if many == 2:
+        # To two things that are wanted together alone one of them has to be wanted, too.
+        wants[0] = (0,) + (each // 2 + 1,) * 3
+    return ((0,) * many, tuple(wants))
+
+
+def towns_of_all_kinds(seed, most_things=5, most_hands=5):
+    """For all counts of things and hands towns of their sides and others, with worths small and great."""
+    source = chance(seed)
+    return [
+        make(source, many, hands, most)
+        for many in range(1, most_things + 1)
+        for hands in range(1, most_hands + 1)
+        for make in (some_town, town_of_sides, clustered_town)
+        for most in (2, 1000)
+    ]
+
+
+def plain_best_in_parts(want, by, numbers):
+    """All best heaps at prices in parts, as frozensets."""
+    return plain_best_heaps([by * worth for worth in want], numbers)
+
+
+def plain_meets(town, by, numbers, dealing):
+    """Whether prices in parts meet with a dealing, by the document's own words."""
+    if any(numbers[thing] != 0 for thing, hand in enumerate(dealing) if hand == -1):
+        return False
+    return all(
+        frozenset(thing for thing, here in enumerate(dealing) if here == hand)
+        in plain_best_in_parts(want, by, numbers)
+        for hand, want in enumerate(town[1])
+    )
+
+
+def are_wholes_at_least(values, least):
+    """Whether a tuple holds whole numbers from the least on alone."""
+    return are_wholes(values) and all(value >= least for value in values)
+
+
+def plain_are_shares(town, by, rows):
+    """Whether anything, twice, is shares of a town, by the document's own words."""
+    sides, wants = town
+    if type(by) is not int or by < 1 or type(rows) is not tuple:
+        return False
+    parts = {}
+    for row in rows:
+        if not are_wholes(row) or len(row) != 3:
+            return False
+        hand, heap, part = row
+        if hand not in range(len(wants)) or heap not in range(1, 2 ** len(sides)) or part < 1 or (hand, heap) in parts:
+            return False
+        parts[hand, heap] = part
+    if list(rows) != sorted(rows):
+        return False
+    uses = [[part for (hand, _), part in parts.items() if hand == here] for here in range(len(wants))]
+    uses += [[part for (_, heap), part in parts.items() if thing in set_of(heap)] for thing in range(len(sides))]
+    return all(sum(use) <= by for use in uses)
+
+
+def plain_shares_worth(town, rows):
+    """What shares are worth."""
+    return sum(part * town[1][hand][heap] for hand, heap, part in rows)
+
+
+def plain_greatest(town):
+    """The greatest sum of all dealings, by going through them."""
+    return max(plain_sum(town, dealing) for dealing in all_dealings(town))

@@ -131,8 +131,8 @@ class ShowsExchanges(unittest.TestCase):
     def test_wants_that_are_not_of_their_sides_have_none(self):
         source = chance(65)
         for many in range(2, 6):
-            for want in [some_want(source, many, 4) for _ in range(4)] + [with_sides(covering(source, many), (0,) * many)]:
-                sides = (0,) * many
+            sides = (0,) * many
+            for want in [some_want(source, many, 4) for _ in range(4)] + [with_sides(covering(source, many), sides)]:
                 choices = plain_choices(want, sides)
                 self.assertEqual(breaking(want, sides) is None, all(choices.values()))
                 for instead in [None] + list(range(many)):
