@@ -153,6 +153,13 @@ class Language(unittest.TestCase):
                     self.assertIsInstance(right, ast.Constant, path.name)
                     self.assertIn(right.value, (None, True, False), path.name)
 
+    def test_walks_are_not_kept(self):
+        walks = {"zip", "enumerate", "reversed", "range", "items", "keys", "values"}
+        for path, node in nodes((ast.Assign, ast.AugAssign, ast.Return)):
+            if isinstance(node.value, ast.Call):
+                name = getattr(node.value.func, "id", getattr(node.value.func, "attr", None))
+                self.assertNotIn(name, walks, path.name)
+
     def test_methods(self):
         own = {node.name for _, node in nodes(ast.FunctionDef)}
         for path, node in nodes(ast.Call):
