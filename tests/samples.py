@@ -281,3 +281,98 @@ def plain_shares_worth(town, rows):
 def plain_greatest(town):
     """The greatest sum of all dealings, by going through them."""
     return max(plain_sum(town, dealing) for dealing in all_dealings(town))
+
+
+def plain_surplus(town, by, numbers):
+    """All greatest gains in parts, and all numbers, by going through all heaps."""
+    gains = [
+        max(by * worth - sum(numbers[thing] for thing in set_of(heap)) for heap, worth in enumerate(want))
+        for want in town[1]
+    ]
+    return sum(gains) + sum(numbers)
+
+
+def plain_top(town):
+    """What all things are worth to the hand to which they are worth most."""
+    return sorted(want[-1] for want in town[1])[-1]
+
+
+def falls(side, way):
+    """Whether a step makes the price of a thing of that side one less."""
+    return (side == 1) == (way == "below")
+
+
+def plain_first_prices(town, way):
+    """The prices at first, from below or from above."""
+    return tuple(plain_top(town) if falls(side, way) else 0 for side in town[0])
+
+
+def plain_stepped(town, prices, heap, way):
+    """The prices behind a step by a frozenset of things; None where it may not be taken."""
+    behind = list(prices)
+    for thing in heap:
+        if falls(town[0][thing], way):
+            behind[thing] -= 1
+        else:
+            behind[thing] += 1
+    return None if min(behind) < 0 else tuple(behind)
+
+
+def plain_step(town, prices, way):
+    """The frozenset of things of a step, by the document's own words: the one within all others of the least surplus."""
+    surpluses = {}
+    for heap in parts_of(range(len(town[0]))):
+        behind = plain_stepped(town, prices, heap, way)
+        if behind is not None:
+            surpluses[heap] = plain_surplus(town, 1, behind)
+    best = [heap for heap in surpluses if surpluses[heap] == min(surpluses.values())]
+    told = [heap for heap in best if all(heap <= other for other in best)]
+    assert len(told) == 1
+    return told[0]
+
+
+def plain_steps(town, prices, way):
+    """(row, prices): the steps from these prices on, and the prices at the end."""
+    row = []
+    heap = plain_step(town, prices, way)
+    while heap:
+        row.append(number_of(heap))
+        prices = plain_stepped(town, prices, heap, way)
+        heap = plain_step(town, prices, way)
+    return (tuple(row), prices)
+
+
+def greatest_difference(one, other):
+    """The greatest difference of a thing's prices."""
+    return max(abs(here - there) for here, there in zip(one, other))
+
+
+def fitted(numbers, sides):
+    """A want that is, turned by the sides, the numbers, but for as little as it takes for each thing to make it rise."""
+    flips = number_of(thing for thing, side in enumerate(sides) if side == 1)
+    back = [numbers[heap ^ flips] for heap in range(len(numbers))]
+    each = [
+        max([0] + [back[heap] - back[heap + 2 ** thing] for heap in range(len(back)) if thing not in set_of(heap)])
+        for thing in range(len(sides))
+    ]
+    return tuple(number - back[0] + sum(each[t] for t in set_of(heap)) for heap, number in enumerate(back))
+
+
+def alone_town(source, sides, hands, most=1000):
+    """A town, of whatever sides, of hands to which a heap is worth its things' worths together, at most so much."""
+    many = len(sides)
+    worths = [[source.randint(0, most // many) for _ in sides] for _ in range(hands)]
+    return (sides, tuple(tuple(sum(here[t] for t in set_of(heap)) for heap in range(2 ** many)) for here in worths))
+
+
+def towns_of_sides(seed, mosts, most_things=5, most_hands=5):
+    """For all counts of things and hands towns of their sides, all 0, all 1 and mixed."""
+    source = chance(seed)
+    towns = []
+    for many in range(1, most_things + 1):
+        for hands in range(1, most_hands + 1):
+            for most in mosts:
+                for sides in ((0,) * many, (1,) * many, some_sides(source, many)):
+                    wants = tuple(fitted(assigning(source, many, most), sides) for _ in range(hands))
+                    towns.append((sides, wants))
+    return towns

@@ -5,7 +5,7 @@ from itertools import product
 
 from tests.samples import (
     RING, all_dealings, are_wholes, are_wholes_at_least, chance, clustered_town, nested, plain_greatest, plain_meets,
-    plain_sum, set_of, some_town, spoiled, strange_things, town_of_sides, towns_of_all_kinds,
+    plain_sum, plain_surplus, some_town, spoiled, strange_things, town_of_sides, towns_of_all_kinds,
 )
 from wantprices.finding import meeting
 from wantprices.meetings import are_meeting, meets, shows_meeting, surplus
@@ -13,14 +13,6 @@ from wantprices.sums import best_dealing, greatest
 
 # Hand 0 wants one thing, hand 1 the second one: who of them has it makes no odds, so (0, 2) alone meets.
 TOWN = ((0, 0), ((0, 4, 6, 6), (0, 0, 2, 2)))
-
-
-def plain_surplus(town, by, numbers):
-    gains = [
-        max(by * worth - sum(numbers[thing] for thing in set_of(heap)) for heap, worth in enumerate(want))
-        for want in town[1]
-    ]
-    return sum(gains) + sum(numbers)
 
 
 def small_towns(seed):

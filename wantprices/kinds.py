@@ -1,5 +1,6 @@
 """Kinds of wants: whether a want is of its sides, and else what breaks it."""
 
+from wantprices.errors import NotOfKind
 from wantprices.heaps import has, heap_of_side, put_in
 
 
@@ -72,3 +73,10 @@ def first_strange(town):
         if breaking(want, sides) is not None:
             return hand
     return None
+
+
+def refuse_strange(town):
+    """Refuse a town that is not of its sides."""
+    hand = first_strange(town)
+    if hand is not None:
+        raise NotOfKind(hand)

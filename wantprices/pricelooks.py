@@ -1,6 +1,7 @@
 """The looker for price breaks."""
 
-from wantprices.heaps import heap_of_side, is_within, less, taken_out
+from wantprices.heaps import heap_of, heap_of_side, is_within, less, taken_out
+from wantprices.moves import stepped
 from wantprices.wanting import best_heaps
 from wantprices.wholes import are_wholes, is_whole
 
@@ -14,14 +15,8 @@ def shows_price_break(want, sides, thing):
         return False
     if not 0 <= at < len(sides) or heap not in best_heaps(want, prices):
         return False
-    behind = best_heaps(want, stepped(sides, prices, at))
+    behind = best_heaps(want, stepped(sides, prices, heap_of((at,))))
     return not any([keeps(sides, heap, other, at) for other in behind])
-
-
-def stepped(sides, prices, thing):
-    """The prices behind a step of that thing's price."""
-    step = -1 if sides[thing] == 1 else 1
-    return prices[:thing] + (prices[thing] + step,) + prices[thing + 1:]
 
 
 def keeps(sides, heap, other, thing):

@@ -3,6 +3,7 @@
 from wantprices.dealings import LEFT
 from wantprices.heaps import has, is_within, less, put_in
 from wantprices.made import joined
+from wantprices.towns import with_want, without_hand
 
 
 def greatest(town):
@@ -17,14 +18,14 @@ def greatest_of(town, heap):
 
 def greatest_without(town, hand):
     """The greatest sum where that hand has nothing."""
-    sides, wants = town
-    return greatest((sides, wants[:hand] + wants[hand + 1:]))
+    return greatest(without_hand(town, hand))
 
 
 def greatest_with_two(town, thing):
     """The greatest sum where of that thing there are two."""
-    sides, wants = town
-    return max([greatest((sides, with_one_more(wants, hand, thing))) for hand in range(len(wants))])
+    return max([
+        greatest(with_want(town, hand, with_one_more(want, thing))) for hand, want in enumerate(town[1])
+    ])
 
 
 def greatest_sums(wants, many):
@@ -36,10 +37,9 @@ def greatest_sums(wants, many):
     return sums
 
 
-def with_one_more(wants, hand, thing):
-    """The wants, that hand having one of the thing already."""
-    more = tuple([wants[hand][put_in(heap, thing)] for heap in range(len(wants[hand]))])
-    return wants[:hand] + (more,) + wants[hand + 1:]
+def with_one_more(want, thing):
+    """The worths by which each heap has one of the thing already."""
+    return tuple([want[put_in(heap, thing)] for heap in range(len(want))])
 
 
 def best_dealing(town):

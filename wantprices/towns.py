@@ -24,3 +24,15 @@ def is_town(thing):
     if not isinstance(wants, tuple) or not 1 <= len(wants) <= MOST_HANDS:
         return False
     return all([is_want(want, len(sides)) for want in wants])
+
+
+def with_want(town, hand, want):
+    """The town where that hand has this want."""
+    sides, wants = town
+    return (sides, wants[:hand] + (want,) + wants[hand + 1:])
+
+
+def without_hand(town, hand):
+    """The town where that hand is no more, and the others move up."""
+    sides, wants = town
+    return (sides, wants[:hand] + wants[hand + 1:])

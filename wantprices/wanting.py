@@ -3,14 +3,28 @@
 from wantprices.heaps import things_in
 
 
+def cost(prices, heap):
+    """The prices of the heap's things together."""
+    return sum([prices[thing] for thing in things_in(heap)])
+
+
 def gain(want, prices, heap):
     """The worth of the heap less the prices of its things."""
-    return want[heap] - sum([prices[thing] for thing in things_in(heap)])
+    return want[heap] - cost(prices, heap)
+
+
+def costs(prices):
+    """What all heaps cost, each at its number."""
+    # Asked for most of all: the heaps with one thing more come behind those without it, in the same order.
+    told = [0]
+    for price in prices:
+        told = told + [here + price for here in told]
+    return told
 
 
 def gains(want, prices):
     """The gains of all heaps, each at its number."""
-    return [gain(want, prices, heap) for heap in range(len(want))]
+    return [worth - paid for worth, paid in zip(want, costs(prices))]
 
 
 def greatest_gain(want, prices):
@@ -20,5 +34,6 @@ def greatest_gain(want, prices):
 
 def best_heaps(want, prices):
     """The rising tuple of all heaps of the greatest gain."""
-    most = greatest_gain(want, prices)
-    return tuple([heap for heap, here in enumerate(gains(want, prices)) if here == most])
+    told = gains(want, prices)
+    most = max(told)
+    return tuple([heap for heap, here in enumerate(told) if here == most])
