@@ -319,7 +319,7 @@ def plain_stepped(town, prices, heap, way):
 
 
 def plain_step(town, prices, way):
-    """The frozenset of things of a step, by the document's own words: the one within all others of the least surplus."""
+    """The things of a step, by the document's own words: of the least surplus the one within all others."""
     surpluses = {}
     for heap in parts_of(range(len(town[0]))):
         behind = plain_stepped(town, prices, heap, way)
@@ -348,7 +348,7 @@ def greatest_difference(one, other):
 
 
 def fitted(numbers, sides):
-    """A want that is, turned by the sides, the numbers, but for as little as it takes for each thing to make it rise."""
+    """A want that is, turned by the sides, the numbers, but for as little for each thing as makes it rise."""
     flips = number_of(thing for thing, side in enumerate(sides) if side == 1)
     back = [numbers[heap ^ flips] for heap in range(len(numbers))]
     each = [

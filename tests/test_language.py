@@ -160,6 +160,30 @@ class Language(unittest.TestCase):
                 name = getattr(node.value.func, "id", getattr(node.value.func, "attr", None))
                 self.assertNotIn(name, walks, path.name)
 
+    def test_what_is_given(self):
+        for path, node in nodes((ast.Assign, ast.AugAssign, ast.For, ast.comprehension)):
+            for target in getattr(node, "targets", None) or [node.target]:
+                if isinstance(target, ast.Tuple):
+                    for part in ast.walk(target):
+                        plain = isinstance(part, (ast.Tuple, ast.Name, ast.Starred, ast.Store))
+                        self.assertTrue(plain, f"{path.name}: {ast.unparse(target)}")
+
+    def test_values_of_objects_are_given_by_some_class(self):
+        given = {node.attr for _, node in nodes(ast.Attribute) if isinstance(node.ctx, ast.Store)}
+        own = {node.name for _, node in nodes(ast.FunctionDef)}
+        self.assertEqual(given & own, set())
+        for path, tree in trees():
+            called = {id(node.func) for node in ast.walk(tree) if isinstance(node, ast.Call)}
+            for node in ast.walk(tree):
+                if isinstance(node, ast.Attribute) and id(node) not in called:
+                    self.assertIn(node.attr, given, path.name)
+
+    def test_errors_that_are_taken(self):
+        for path, node in nodes(ast.ExceptHandler):
+            self.assertIn(ast.unparse(node.type), ("NoText", "NotOfKind"), path.name)
+        for path, node in nodes(ast.Raise):
+            self.assertIsInstance(node.exc, ast.Call, path.name)
+
     def test_methods(self):
         own = {node.name for _, node in nodes(ast.FunctionDef)}
         for path, node in nodes(ast.Call):

@@ -34,19 +34,24 @@ def are_shares(town, by, rows):
     """Whether by and rows, each of them anything, are shares of the town."""
     if not is_whole_from(by, 1) or not isinstance(rows, tuple):
         return False
-    if not all([is_share(town, row) for row in rows]):
-        return False
-    places = [row[:2] for row in rows]
-    return places == sorted(set(places)) and keep_bounds(town, by, rows)
-
-
-def is_share(town, row):
-    """Whether anything is (hand, heap, part) of the town."""
     sides, wants = town
+    if not all([is_share(row, len(sides), len(wants)) for row in rows]):
+        return False
+    return rise_by_place(rows) and keep_bounds(town, by, rows)
+
+
+def is_share(row, many, hands):
+    """Whether anything is (hand, heap, part) of so many things and hands."""
     if not are_wholes(row, 3):
         return False
     hand, heap, part = row
-    return 0 <= hand < len(wants) and 0 < heap < 1 << len(sides) and part > 0
+    return 0 <= hand < hands and 0 < heap < 1 << many and part > 0
+
+
+def rise_by_place(rows):
+    """Whether rows (hand, heap, part) rise, hand and heap of no two alike."""
+    places = [row[:2] for row in rows]
+    return places == sorted(set(places))
 
 
 def keep_bounds(town, by, rows):
